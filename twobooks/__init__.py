@@ -1,0 +1,1 @@
+"""Two notebooks from one: a base and two sides, edited apart."""

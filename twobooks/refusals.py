@@ -1,0 +1,14 @@
+"""The numbers that calls are refused with."""
+
+NO_REFUSAL = 0
+
+NO_CELL = -1
+NO_FIT_AFTER = -2
+NO_BYTE = -4
+TEXT_TOO_LONG = -5
+TOO_MANY_CELLS = -6
+NOTHING_CHANGES = -7
+NO_SIDE = -8
+ROW_NOT_WHOLE = -15
+NUMBERS_USED_UP = -16
+NO_MARK = -18
