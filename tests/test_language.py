@@ -33,6 +33,11 @@ UNUSED_WORDS = re.compile(
 TWO_UNDERSCORES = ("__init__", "__eq__", "__repr__", "__str__", "__len__")
 
 
+WALKERS = ("zip", "enumerate", "reversed", "range")
+WALKED_METHODS = ("items", "keys", "values")
+WALKED_IN = ("list", "tuple", "dict", "sorted", "sum", "any", "all", "enumerate", "zip", "min", "max")
+
+
 def module_of(path):
     return ".".join(path.relative_to(PACKAGE.parent).with_suffix("").parts)
 
@@ -106,6 +111,32 @@ class Language(unittest.TestCase):
             if isinstance(node, ast.Compare) and any(isinstance(one, (ast.Is, ast.IsNot)) for one in node.ops):
                 beside = [one for one in [node.left] + node.comparators if isinstance(one, ast.Constant)]
                 self.assertTrue(any(one.value in (None, True, False) for one in beside), self.where(path, node))
+
+    def test_walked_at_once(self):
+        walked = []
+        for path, node in self.nodes:
+            if isinstance(node, (ast.For, ast.comprehension)):
+                walked.append(node.iter)
+            if isinstance(node, ast.Call) and isinstance(node.func, ast.Name) and node.func.id in WALKED_IN:
+                walked += node.args[:1]
+        for path, node in self.nodes:
+            if isinstance(node, ast.Call):
+                name = node.func.id if isinstance(node.func, ast.Name) else ""
+                method = node.func.attr if isinstance(node.func, ast.Attribute) else ""
+                if name in WALKERS or method in WALKED_METHODS:
+                    self.assertIn(node, walked, self.where(path, node))
+
+    def test_what_a_loop_walks_is_not_changed_in_it(self):
+        changing = ("append", "clear", "extend", "insert", "pop", "remove", "reverse", "setdefault", "update")
+        for path, loop in self.nodes:
+            if not isinstance(loop, ast.For):
+                continue
+            walked = [ast.unparse(node) for node in ast.walk(loop.iter) if isinstance(node, (ast.Name, ast.Attribute))]
+            for node in [inner for statement in loop.body for inner in ast.walk(statement)]:
+                if isinstance(node, ast.Call) and isinstance(node.func, ast.Attribute) and node.func.attr in changing:
+                    self.assertNotIn(ast.unparse(node.func.value), walked, self.where(path, node))
+                if isinstance(node, ast.Subscript) and isinstance(node.ctx, ast.Store):
+                    self.assertNotIn(ast.unparse(node.value), walked, self.where(path, node))
 
     def test_top_of_files(self):
         for path, tree in self.trees.items():

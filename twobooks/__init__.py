@@ -1,1 +1,1 @@
-"""Two notebooks from one: a base and two sides, edited apart."""
+"""Two notebooks from one: a base and two sides, edited apart and merged."""

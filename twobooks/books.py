@@ -1,10 +1,8 @@
 """The base and the two sides, and the calls that set, copy and exchange them."""
 
 from twobooks.cells import Cell, MOST_CELLS, number_above, refusal_of_texts
+from twobooks.kinds import EXCHANGED_CHOICES, EXCHANGED_KINDS, LEFT, RIGHT
 from twobooks.refusals import NO_REFUSAL, NO_SIDE, ROW_NOT_WHOLE, TOO_MANY_CELLS
-
-LEFT = 1
-RIGHT = 2
 
 
 class Side:
@@ -17,11 +15,12 @@ class Side:
 
 
 class Books:
-    """The cells of the base, and the sides by their numbers."""
+    """The cells of the base, the sides by their numbers, and the choices by their conflict's kind and number."""
 
     def __init__(self):
         self.base_cells = []
         self.sides = {LEFT: Side([], 1), RIGHT: Side([], 1)}
+        self.choices = {}
 
 
 def copy_of_base(books):
@@ -53,6 +52,7 @@ def set_base(books, row):
         return TOO_MANY_CELLS
     books.base_cells = [Cell(number, 0, text) for number, text in enumerate(texts, start=1)]
     books.sides = {LEFT: copy_of_base(books), RIGHT: copy_of_base(books)}
+    books.choices = {}
     return len(texts)
 
 
@@ -71,6 +71,14 @@ def reset_side(books, side):
     return 0
 
 
+def exchanged_choices(choices):
+    exchanged = {}
+    for conflict, choice in choices.items():
+        exchanged[(EXCHANGED_KINDS[conflict[0]], conflict[1])] = EXCHANGED_CHOICES[choice]
+    return exchanged
+
+
 def swap_sides(books):
     books.sides = {LEFT: books.sides[RIGHT], RIGHT: books.sides[LEFT]}
+    books.choices = exchanged_choices(books.choices)
     return 0

@@ -38,6 +38,18 @@ def place_of(cells, number):
     return None
 
 
+def cell_of(cells, number):
+    """The cell of this number, or None."""
+    place = place_of(cells, number)
+    if place is None:
+        return None
+    return cells[place]
+
+
+def numbers_of(cells):
+    return [cell.number for cell in cells]
+
+
 def place_behind(cells, after):
     """The place right behind the cell after, the first place if after is 0, or None."""
     if after == 0:
@@ -50,4 +62,4 @@ def place_behind(cells, after):
 
 def number_above(cells):
     """One above the greatest number of the cells, 1 without cells."""
-    return max([cell.number for cell in cells], default=0) + 1
+    return max(numbers_of(cells), default=0) + 1
